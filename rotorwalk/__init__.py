@@ -1,0 +1,1 @@
+"""Rotorwalk: walkers on a web whose hands turn."""
