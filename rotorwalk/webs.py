@@ -1,5 +1,6 @@
 """Webs: places with ways out, which lead to places."""
 
+from rotorwalk.checks import is_number
 from rotorwalk.errors import BadPlace, BadWeb
 
 MOST_PLACES = 8
@@ -8,8 +9,6 @@ MOST_WAYS = 3
 
 def is_web(thing):
     """True if thing is a list that tells a web, else False."""
-    # The exact class is asked for, here and below: a class of the caller's
-    # own could answer as it likes, or fail, when it is asked anything.
     if type(thing) is not list or not 1 <= len(thing) <= MOST_PLACES:
         return False
     return all([_is_row(row, len(thing)) for row in thing])
@@ -19,12 +18,7 @@ def _is_row(thing, many):
     """True if thing is a list that tells the ways of one of so many places."""
     if type(thing) is not list or len(thing) > MOST_WAYS:
         return False
-    return all([_is_place(place, many) for place in thing])
-
-
-def _is_place(thing, many):
-    """True if thing is the number of one of so many places."""
-    return type(thing) is int and 0 <= thing < many
+    return all([is_number(place, 0, many - 1) for place in thing])
 
 
 def _reached(ways, start):
@@ -67,18 +61,23 @@ class Web:
 
     def is_rest(self, place):
         """True if place has no ways, else False; BadPlace."""
-        self._check_place(place)
+        self.check_place(place)
         return not self._ways[place]
 
     def comes(self, place, other):
         """True if one comes from place to other, else False; BadPlace."""
-        self._check_place(place)
-        self._check_place(other)
+        self.check_place(place)
+        self.check_place(other)
         return other in _reached(self._ways, place)
 
     def is_even(self):
         """True if the web is even, else False."""
         return not self.rests() and self._is_balanced() and self._is_joined()
+
+    def check_place(self, place):
+        """Refuse what is no place of this web."""
+        if not is_number(place, 0, self.many() - 1):
+            raise BadPlace(f"a place of this web is a number from 0 to {self.many() - 1}")
 
     def _is_balanced(self):
         """True if at each place as many ways come in as go out."""
@@ -93,8 +92,3 @@ class Web:
             len(_reached(self._ways, place)) == self.many()
             for place in range(self.many())
         ])
-
-    def _check_place(self, place):
-        """Refuse what is no place of this web."""
-        if not _is_place(place, self.many()):
-            raise BadPlace(f"a place of this web is a number from 0 to {self.many() - 1}")

@@ -3,38 +3,12 @@
 import unittest
 from copy import deepcopy
 
-from examples import Failing, no_numbers, no_places, webs
+from examples import Failing, closure, even, no_numbers, no_places, ring, webs
 from rotorwalk import webs as module
 from rotorwalk.errors import BadPlace, BadWeb, WalkError
 from rotorwalk.webs import Web, is_web
 
 SAMPLE = [[1, 2, 1], [3], [], [0, 3, 4], [4], [0, 1]]
-
-
-def closure(rows):
-    """Which places lead to which, worked out by joining pairs of ways."""
-    places = range(len(rows))
-    leads = [[a == b or b in rows[a] for b in places] for a in places]
-    for middle in places:
-        for a in places:
-            for b in places:
-                leads[a][b] = leads[a][b] or (leads[a][middle] and leads[middle][b])
-    return leads
-
-
-def even(rows):
-    """Whether the web is even, said from the words of the document."""
-    ends = [place for row in rows for place in row]
-    return (
-        all(len(row) > 0 for row in rows)
-        and all(ends.count(place) == len(row) for place, row in enumerate(rows))
-        and all(all(row) for row in closure(rows))
-    )
-
-
-def ring(many, ways=1):
-    """A ring through all places, so many ways side by side at each."""
-    return [[(place + 1) % many] * ways for place in range(many)]
 
 
 def no_webs():
